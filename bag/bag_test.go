@@ -1,6 +1,7 @@
 package bag_test
 
 import (
+	"cmp"
 	"math"
 	"slices"
 	"strings"
@@ -208,6 +209,17 @@ func TestSortOfPairs(t *testing.T) {
 			}
 			if got := bag.Sort(rows(a, b)); !sameRows(got, want) {
 				t.Fatalf("P8.1: Sort(%v) = %v, want %v", rows(a, b), got, want)
+			}
+		}
+	}
+}
+
+func TestCompare(t *testing.T) {
+	all := slices.Concat(emptyRows(), ascending())
+	for i, a := range all {
+		for k, b := range all {
+			if got, want := bag.Compare(a, b), cmp.Compare(i, k); got != want {
+				t.Fatalf("P8.1: Compare(%v, %v) = %d, want %d", a, b, got, want)
 			}
 		}
 	}
